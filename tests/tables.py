@@ -1,0 +1,43 @@
+"""Tables that the tests hold the program against."""
+
+
+def mixed_rows(many, width, seed):
+    """Rows that follow no plain pattern, the same in each run."""
+    rows = []
+    state = seed * 7919 + 1
+    for _ in range(many):
+        state = (state * 6364136223846793005 + 1442695040888963407) % (1 << 64)
+        rows.append((state >> 33) % (1 << width))
+    return rows
+
+
+def rows_lacking_one(many, width):
+    """Rows that each lack one column: such a table has as many ideas as can be."""
+    return [((1 << width) - 1) & ~(1 << (thing % width)) for thing in range(many)]
+
+
+# (rows, width): the edges that the document names, and tables between them.
+TABLES = [
+    ([], 0),
+    ([0], 0),
+    ([0] * 60, 0),
+    ([], 1),
+    ([0], 1),
+    ([1], 1),
+    ([], 10),
+    ([0], 10),
+    ([1023], 10),
+    ([1023] * 60, 10),
+    ([0] * 60, 10),
+    ([0b011, 0b110, 0b101], 3),
+    ([0b011, 0b011, 0b110, 0b011], 3),
+    ([0b001, 0b011, 0b111], 3),
+    ([1 << column for column in range(10)], 10),
+    (rows_lacking_one(10, 10), 10),
+    (rows_lacking_one(60, 10), 10),
+    (mixed_rows(60, 10, 1), 10),
+    (mixed_rows(60, 10, 2), 10),
+    (mixed_rows(7, 10, 3), 10),
+    (mixed_rows(60, 3, 4), 3),
+    (mixed_rows(1, 6, 5), 6),
+] + [(mixed_rows(seed % 9, 1 + seed % 6, seed), 1 + seed % 6) for seed in range(6, 60)]

@@ -1,0 +1,1 @@
+"""Things, the traits they share, and the rules that hold among them."""

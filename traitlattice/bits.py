@@ -1,0 +1,19 @@
+"""Sets as whole numbers: bit k says whether number k is in the set."""
+
+
+def ones(mask):
+    """The list of the members of a set, the least first."""
+    return [place for place in range(mask.bit_length()) if (mask >> place) & 1 == 1]
+
+
+def mask_of(places):
+    """The set of a list of places, which may come in any order and more than once."""
+    mask = 0
+    for place in places:
+        mask = mask | (1 << place)
+    return mask
+
+
+def within(small, large):
+    """Whether each member of small is in large."""
+    return (small & large) == small
