@@ -3,7 +3,7 @@
 
 def ones(mask):
     """The list of the members of a set, the least first."""
-    return [place for place in range(mask.bit_length()) if (mask >> place) & 1 == 1]
+    return [place for place in range(mask.bit_length()) if ((mask >> place) & 1) == 1]
 
 
 def mask_of(places):
