@@ -1,4 +1,4 @@
-"""Tables that the tests hold the program against."""
+"""Tables that the tests hold the program against, and what several tests ask of its answers."""
 
 
 def mixed_rows(many, width, seed):
@@ -14,6 +14,36 @@ def mixed_rows(many, width, seed):
 def rows_lacking_one(many, width):
     """Rows that each lack one column: such a table has as many ideas as can be."""
     return [((1 << width) - 1) & ~(1 << (thing % width)) for thing in range(many)]
+
+
+def first_unlike(told, wanted):
+    """The first place where two lists differ, or None.
+
+    Told in the place of the lists: unittest takes minutes to lay two long lists
+    side by side.
+    """
+    for place in range(max(len(told), len(wanted))):
+        if told[place : place + 1] != wanted[place : place + 1]:
+            return place, told[place : place + 1], wanted[place : place + 1]
+    return None
+
+
+def lies_within(small, large):
+    return small & ~large == 0
+
+
+def is_broken_by(mask, rule):
+    return lies_within(rule[0], mask) and not lies_within(rule[1], mask)
+
+
+def walked(rules, rule, paper):
+    """Whether the paper can be walked as the document tells, up to the rule's behind."""
+    mask = rule[0]
+    for place in paper:
+        if not 0 <= place < len(rules) or not is_broken_by(mask, rules[place]):
+            return False
+        mask |= rules[place][1]
+    return lies_within(rule[1], mask)
 
 
 # (rows, width): the edges that the document names, and tables between them.

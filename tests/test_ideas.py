@@ -1,6 +1,6 @@
 import unittest
 
-from tests.tables import TABLES, mixed_rows, rows_lacking_one
+from tests.tables import TABLES, first_unlike, mixed_rows, rows_lacking_one
 from traitlattice.ideas import ideas
 
 
@@ -24,18 +24,6 @@ def tried_one_by_one(rows, width):
         if columns_of(rows, width, group) == mask:
             found.append((group, mask))
     return found
-
-
-def first_unlike(told, wanted):
-    """The first place where two lists differ, or None.
-
-    Told in the place of the lists: unittest takes minutes to lay two long lists
-    side by side.
-    """
-    for place in range(max(len(told), len(wanted))):
-        if told[place : place + 1] != wanted[place : place + 1]:
-            return place, told[place : place + 1], wanted[place : place + 1]
-    return None
 
 
 class ByHand(unittest.TestCase):

@@ -30,6 +30,17 @@ UNUSED_NAMES = """register mro elements open input version_info with_traceback a
     breakpoint builtins compile delattr dir eval exec exit gc getattr globals hasattr help id importlib
     locals methodcaller os quit setattr super type vars sys""".split()
 
+WALKED_AT_ONCE = ["zip", "enumerate", "reversed", "range", "items", "keys", "values"]
+WALKERS = "list tuple dict sorted sum any all enumerate zip".split()
+KEYWORDS = {
+    "sorted": ["key", "reverse"],
+    "min": ["key", "default"],
+    "max": ["key", "default"],
+    "sum": ["start"],
+    "enumerate": ["start"],
+    "zip": ["strict"],
+}
+
 UNUSED_WORDS = re.compile(
     r"\b(type|typing|typing_extensions|enum|Enum|IntEnum|StrEnum|Flag|IntFlag|Generic|Protocol|ABC|ABCMeta"
     r"|namedtuple|NamedTuple|TypedDict|TYPE_CHECKING|abstractmethod)\b|dataclass|overload|contextmanager"
@@ -50,6 +61,22 @@ def nodes_of(kinds):
         for node in ast.walk(tree_of(path)):
             if isinstance(node, kinds):
                 yield f"{path.name}:{getattr(node, 'lineno', 0)}", node
+
+
+def called(node):
+    """The name that a call calls, by itself or behind a point; else an empty text."""
+    if not isinstance(node, ast.Call):
+        return ""
+    return getattr(node.func, "id", getattr(node.func, "attr", ""))
+
+
+def walked_places(node):
+    """What stands within a node where it is walked on the spot."""
+    if isinstance(node, (ast.For, ast.comprehension)):
+        return [node.iter]
+    if called(node) in WALKERS or called(node) in ("min", "max", "join") and len(node.args) == 1:
+        return node.args[:1]
+    return []
 
 
 def defined_in(tree):
@@ -161,6 +188,25 @@ class Forms(unittest.TestCase):
             self.assertIsInstance(node.value, (int, str, type(None)), place)
             if isinstance(node.value, str):
                 self.assertNotIn("%", node.value, place)
+
+    def test_what_is_walked_at_once(self):
+        walked = [part for place, node in nodes_of(ast.AST) for part in walked_places(node)]
+        spots = [(part.lineno, part.col_offset, ast.dump(part)) for part in walked]
+        for place, node in nodes_of(ast.Call):
+            if called(node) in WALKED_AT_ONCE:
+                self.assertIn((node.lineno, node.col_offset, ast.dump(node)), spots, place)
+
+    def test_keywords_of_pythons_own(self):
+        for place, node in nodes_of(ast.Call):
+            if called(node) in OWN_NAMES + OWN_METHODS:
+                for keyword in node.keywords:
+                    self.assertIn(keyword.arg, KEYWORDS.get(called(node), []), place)
+
+    def test_powers_have_a_written_exponent(self):
+        for place, node in nodes_of(ast.BinOp):
+            if isinstance(node.op, ast.Pow):
+                self.assertIsInstance(node.right, ast.Constant, place)
+                self.assertLessEqual(node.right.value, 64, place)
 
     def test_is_stands_beside_none_true_and_false_alone(self):
         for place, node in nodes_of(ast.Compare):
