@@ -46,6 +46,44 @@ def walked(rules, rule, paper):
     return lies_within(rule[1], mask)
 
 
+def keeps(mask, rules):
+    return not any(is_broken_by(mask, rule) for rule in rules)
+
+
+def every_rule(width):
+    sets = range(1 << width)
+    return [(ahead, behind) for ahead in sets for behind in sets]
+
+
+def closed_set(rows, width, mask):
+    full = (1 << width) - 1
+    for row in rows:
+        if lies_within(mask, row):
+            full &= row
+    return full
+
+
+def things_with(rows, mask):
+    return sum(1 << thing for thing, row in enumerate(rows) if lies_within(mask, row))
+
+
+def ideas_by_the_words(rows, width):
+    """Every set of columns is tried, in rising order, by the words of the document."""
+    masks = [mask for mask in range(1 << width) if closed_set(rows, width, mask) == mask]
+    return [(things_with(rows, mask), mask) for mask in masks]
+
+
+def least_by_the_words(rows, width):
+    """Every set of columns is tried by the words of the document, small sets first."""
+    starts = {}
+    for mask in sorted(range(1 << width), key=lambda mask: bin(mask).count("1")):
+        full = closed_set(rows, width, mask)
+        inner = [start for start in starts if lies_within(start, mask)]
+        if full != mask and all(lies_within(starts[start], mask) for start in inner):
+            starts[mask] = full
+    return [(start, starts[start] & ~start) for start in sorted(starts)]
+
+
 # (rows, width): the edges that the document names, and tables between them.
 TABLES = [
     ([], 0),

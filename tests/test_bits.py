@@ -1,6 +1,6 @@
 import unittest
 
-from traitlattice.bits import mask_of, ones, within
+from traitlattice.bits import fits, mask_of, ones, within
 
 ALL = (1 << 100) - 1
 
@@ -97,6 +97,21 @@ class Within(unittest.TestCase):
             for large in range(32):
                 told = within(small, large)
                 self.assertIs(told, set(ones(small)) <= set(ones(large)))
+
+
+class Fits(unittest.TestCase):
+    def test_at_the_edges(self):
+        for many in (0, 1, 3, 10, 60):
+            full = (1 << many) - 1
+            self.assertIs(fits(0, many), True)
+            self.assertIs(fits(full, many), True)
+            self.assertIs(fits(full + 1, many), False)
+            self.assertIs(fits(-1, many), False)
+
+    def test_sixty_figures(self):
+        for number in (10**60 - 1, 1 << 198, -(1 << 198), 1 - 10**60):
+            self.assertIs(fits(number, 10), False)
+            self.assertIs(fits(number, 60), False)
 
 
 if __name__ == "__main__":

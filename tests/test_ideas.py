@@ -1,11 +1,14 @@
 import unittest
 
-from tests.tables import TABLES, first_unlike, mixed_rows, rows_lacking_one
+from tests.tables import (
+    TABLES,
+    first_unlike,
+    ideas_by_the_words,
+    mixed_rows,
+    rows_lacking_one,
+    things_with,
+)
 from traitlattice.ideas import ideas
-
-
-def things_with(rows, mask):
-    return sum(1 << thing for thing, row in enumerate(rows) if mask & ~row == 0)
 
 
 def columns_of(rows, width, group):
@@ -14,16 +17,6 @@ def columns_of(rows, width, group):
         if group >> thing & 1:
             columns &= row
     return columns
-
-
-def tried_one_by_one(rows, width):
-    """Every set of columns is tried, in rising order, by the words of the document."""
-    found = []
-    for mask in range(1 << width):
-        group = things_with(rows, mask)
-        if columns_of(rows, width, group) == mask:
-            found.append((group, mask))
-    return found
 
 
 class ByHand(unittest.TestCase):
@@ -70,7 +63,7 @@ class EveryTable(unittest.TestCase):
     def test_none_is_missing_and_none_is_too_many(self):
         for rows, width in TABLES:
             with self.subTest(rows=rows, width=width):
-                wanted = tried_one_by_one(rows, width)
+                wanted = ideas_by_the_words(rows, width)
                 self.assertIsNone(first_unlike(ideas(rows, width), wanted))
 
     def test_each_once_by_rising_masks(self):

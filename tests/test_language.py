@@ -18,6 +18,8 @@ OWN_METHODS = """append clear copy count endswith extend find get index insert i
     rjust rpartition rsplit rstrip setdefault split splitlines startswith strip update upper values zfill
     bit_length""".split()
 
+FREE_VALUES = "count index title find get join lower upper split strip copy add".split()
+
 SPECIAL_METHODS = ["__init__", "__eq__", "__repr__", "__str__", "__len__"]
 
 ALLOWED_NODES = """Module Expr ImportFrom alias FunctionDef ClassDef Assign AugAssign Return If While For
@@ -249,6 +251,26 @@ class Names(unittest.TestCase):
         for place, node in nodes_of(ast.Attribute):
             if isinstance(node.ctx, ast.Store):
                 self.assertNotIn(node.attr, methods, place)
+
+    def test_no_local_is_called_like_a_class_or_an_import_of_its_file(self):
+        for path in sources():
+            tree = tree_of(path)
+            nodes = list(ast.walk(tree))
+            taken = [node.name for node in nodes if isinstance(node, (ast.ClassDef, ast.alias))]
+            names = [node.arg for node in nodes if isinstance(node, ast.arg)]
+            names += [node.id for node in nodes if isinstance(node, ast.Name) and isinstance(node.ctx, ast.Store)]
+            self.assertEqual(sorted(set(taken) & set(names)), [], path.name)
+
+    def test_names_of_own_values_and_methods(self):
+        kinds = (str, int, list, tuple, dict, set, bytes)
+        taken = [name for kind in kinds for name in dir(kind) if name not in SPECIAL_METHODS]
+        for place, node in nodes_of(ast.Attribute):
+            if isinstance(node.ctx, ast.Store) and node.attr not in FREE_VALUES:
+                self.assertNotIn(node.attr, taken, place)
+        for place, node in nodes_of(ast.ClassDef):
+            for part in node.body:
+                if isinstance(part, ast.FunctionDef) and part.name not in OWN_METHODS + ["add", "discard"]:
+                    self.assertNotIn(part.name, taken, place)
 
 
 if __name__ == "__main__":

@@ -3,37 +3,18 @@ import unittest
 
 from tests.tables import (
     TABLES,
+    closed_set,
+    every_rule,
     first_unlike,
     is_broken_by,
+    keeps,
+    least_by_the_words,
     lies_within,
     mixed_rows,
     rows_lacking_one,
     walked,
 )
 from traitlattice.least import answer, least
-
-
-def closed_set(rows, width, mask):
-    full = (1 << width) - 1
-    for row in rows:
-        if lies_within(mask, row):
-            full &= row
-    return full
-
-
-def starts_by_the_words(rows, width):
-    """Every set of columns is tried by the words of the document, small sets first."""
-    starts = {}
-    for mask in sorted(range(1 << width), key=lambda mask: bin(mask).count("1")):
-        full = closed_set(rows, width, mask)
-        inner = [start for start in starts if lies_within(start, mask)]
-        if full != mask and all(lies_within(starts[start], mask) for start in inner):
-            starts[mask] = full
-    return starts
-
-
-def keeps(mask, rules):
-    return not any(is_broken_by(mask, rule) for rule in rules)
 
 
 def fewest_rules(rows, width):
@@ -57,7 +38,7 @@ def broken_by(rows, rule):
 def some_rules(rows, width):
     """Every rule of a narrow table; of a wide one some that hold and some that don't."""
     if width <= 4:
-        return [(ahead, behind) for ahead in range(1 << width) for behind in range(1 << width)]
+        return every_rule(width)
     sides = mixed_rows(60, width, len(rows))
     rules = list(zip(sides, reversed(sides)))
     rules += [(one & other, closed_set(rows, width, one & other)) for one, other in rules]
@@ -99,8 +80,7 @@ class Least(unittest.TestCase):
 
     def test_every_set_by_the_words(self):
         for rows, width in TABLES:
-            starts = starts_by_the_words(rows, width)
-            wanted = [(start, starts[start] & ~start) for start in sorted(starts)]
+            wanted = least_by_the_words(rows, width)
             self.assertIsNone(first_unlike(least(rows, width), wanted))
 
     def test_rising_starts_and_no_column_on_both_sides(self):
@@ -131,8 +111,7 @@ class Least(unittest.TestCase):
 
     def test_somewhat_beyond_the_bounds(self):
         for rows, width in ((mixed_rows(70, 11, 7), 11), ([], 12)):
-            starts = starts_by_the_words(rows, width)
-            wanted = [(start, starts[start] & ~start) for start in sorted(starts)]
+            wanted = least_by_the_words(rows, width)
             self.assertIsNone(first_unlike(least(rows, width), wanted))
 
     def test_no_rule_can_be_left_out(self):

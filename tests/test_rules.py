@@ -1,6 +1,6 @@
 import unittest
 
-from tests.tables import TABLES, is_broken_by, lies_within, mixed_rows, walked
+from tests.tables import TABLES, every_rule, is_broken_by, keeps, lies_within, mixed_rows, walked
 from traitlattice.rules import breaker, grown, holds, way
 
 
@@ -13,16 +13,11 @@ def mixed_rules(many, width, seed):
     ]
 
 
-def every_rule(width):
-    sets = range(1 << width)
-    return [(ahead, behind) for ahead in sets for behind in sets]
-
-
 def tried_one_by_one(rules, mask, width):
     """What all sets that hold the mask and keep every rule have in common."""
     common = (1 << width) - 1
     for other in range(1 << width):
-        if lies_within(mask, other) and not any(is_broken_by(other, rule) for rule in rules):
+        if lies_within(mask, other) and keeps(other, rules):
             common &= other
     return common
 

@@ -17,3 +17,8 @@ def mask_of(places):
 def within(small, large):
     """Whether each member of small is in large."""
     return (small & large) == small
+
+
+def fits(number, many):
+    """Whether a whole number, maybe below 0, is a set of members that are all less than many."""
+    return 0 <= number < (1 << many)
