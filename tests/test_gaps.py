@@ -1,39 +1,8 @@
-import itertools
 import unittest
 
+from tests.sheets import TOP, columns_by_the_words, holds_in, rows_of_a_thing, tables_of
 from tests.tables import every_rule, is_broken_by, mixed_rows
 from traitlattice.gaps import mending, spoiling, spread, sure
-
-TOP = 999999999999999999
-
-
-def columns_by_the_words(steps, worths):
-    mask, column = 0, 0
-    for marks, worth in zip(steps, worths, strict=True):
-        for step in marks:
-            if worth >= step:
-                mask |= 1 << column
-            column += 1
-    return mask
-
-
-def worths_that_matter(marks, cell):
-    """The low and each step up to the high: any other worth has the columns of one of these."""
-    return [cell[0]] + [step for step in marks if cell[0] < step <= cell[1]]
-
-
-def rows_of_a_thing(steps, line):
-    choices = [worths_that_matter(marks, cell) for marks, cell in zip(steps, line, strict=True)]
-    return [columns_by_the_words(steps, worths) for worths in itertools.product(*choices)]
-
-
-def tables_of(steps, cells):
-    """The tables of all fillings that matter."""
-    return list(itertools.product(*[rows_of_a_thing(steps, line) for line in cells]))
-
-
-def holds_in(rows, rule):
-    return not any(is_broken_by(row, rule) for row in rows)
 
 
 def mixed_cells(steps, many, seed):

@@ -1,9 +1,7 @@
 import unittest
 
+from tests.sheets import TOP, all_told
 from traitlattice.sheet import Sheet, Table
-
-TOP = 999999999999999999
-
 
 def some_traits():
     return [("plain", "red", [1]), ("graded", "size", [10, 40]), ("graded", "plain", [1])]
@@ -15,10 +13,6 @@ def some_cells():
 
 def some_sheet():
     return Sheet(some_traits(), ["apple", "pea"], some_cells())
-
-
-def all_told(sheet):
-    return sheet.steps(), sheet.cells(), sheet.columns(), sheet.things()
 
 
 class Sheets(unittest.TestCase):

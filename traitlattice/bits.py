@@ -19,6 +19,11 @@ def within(small, large):
     return (small & large) == small
 
 
+def picked(names, mask):
+    """The names at the places of a set, in their order."""
+    return [names[place] for place in ones(mask)]
+
+
 def fits(number, many):
     """Whether a whole number, maybe below 0, is a set of members that are all less than many."""
     return 0 <= number < (1 << many)

@@ -1,4 +1,5 @@
-"""How large a table may be where a larger one is refused."""
+"""How many steps, columns and things there may be where more are refused."""
 
+MOST_STEPS = 4
 MOST_COLUMNS = 10
 MOST_THINGS = 60
