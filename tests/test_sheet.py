@@ -3,6 +3,7 @@ import unittest
 from tests.sheets import TOP, all_told
 from traitlattice.sheet import Sheet, Table
 
+
 def some_traits():
     return [("plain", "red", [1]), ("graded", "size", [10, 40]), ("graded", "plain", [1])]
 

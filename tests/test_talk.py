@@ -7,7 +7,6 @@ from tests.tables import (
     is_broken_by,
     keeps,
     least_by_the_words,
-    lies_within,
     mixed_rows,
 )
 from traitlattice.errors import Against, AtEnd, BadSet, NotBroken
